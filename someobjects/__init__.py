@@ -1,0 +1,1 @@
+"""Labels that everybody checks by looking at the neighbours alone."""
