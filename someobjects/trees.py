@@ -3,7 +3,8 @@
 Trees may be as deep as they have people, so nothing here calls itself: a tree
 is taken apart into the list of its nodes, and built of such a list again. A
 node in the list is a pair of its letter and the number of its children, and
-stands ahead of its children, as in the text of the tree.
+stands ahead of its children, as in the text of the tree, unless a function
+says that it stands behind them.
 """
 
 from someobjects.words import Words
@@ -25,6 +26,20 @@ def row_tree(row):
 def people(tree):
     """The number of people of a tree."""
     return len(nodes_of(tree))
+
+
+def people_of(tree):
+    """The list of the people of a tree, in order: of each one its letter and the numbers of its children."""
+    told = []
+    roots = []
+    for letter, many in nodes_from_below(tree):
+        # The roots that are told last are still without a parent: they are the children of this one.
+        own = len(roots) - many
+        children = tuple(roots[own:])
+        del roots[own:]
+        roots.append(len(told))
+        told.append((letter, children))
+    return told
 
 
 def filled(context, tree):
@@ -82,6 +97,18 @@ def nodes_of(tree):
         # The first child is put on top, so that it is taken first.
         waiting.extend(children[::-1])
     return nodes
+
+
+def nodes_from_below(tree):
+    """The list of the nodes of a tree, each behind its children, in the order in which people are numbered."""
+    nodes = []
+    waiting = [tree]
+    while waiting:
+        letter, children = waiting.pop()
+        nodes.append((letter, len(children)))
+        # The second child is put on top: turned around, its nodes stand behind those of the first one.
+        waiting.extend(children)
+    return nodes[::-1]
 
 
 def tree_of(nodes):

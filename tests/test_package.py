@@ -4,7 +4,7 @@ import ast
 import pathlib
 import unittest
 
-from someobjects import errors, machine, trees
+from someobjects import errors, least, machine, ring, seen, trees
 
 PACKAGE = pathlib.Path(errors.__file__).parent
 
@@ -14,6 +14,9 @@ class Interface(unittest.TestCase):
         headings = {
             machine: ["Machine", "read_machine", "machine_text"],
             trees: ["row_tree", "people", "read_tree", "tree_text", "filled"],
+            seen: ["objectors", "ring_objectors", "wishes", "ring_wishes", "ways"],
+            least: ["Found", "best", "judge", "fewest_objections", "after_change"],
+            ring: ["best_ring", "judge_ring"],
         }
         for module, names in headings.items():
             for name in names:
@@ -26,6 +29,26 @@ class Interface(unittest.TestCase):
         self.assertEqual(trees.people(tree=tree), 2)
         self.assertEqual(trees.read_tree(text=trees.tree_text(tree=tree)), tree)
         self.assertEqual(trees.filled(context=(None, ()), tree=tree), tree)
+
+    def test_arguments_have_their_names_in_what_is_seen_and_found(self):
+        made = machine.Machine(1, 1, [(0, [], 0), (0, [0], 0)], [0])
+        tree, row, prices = trees.row_tree([0, 0]), [0, 0], [[1], [2]]
+        self.assertEqual(seen.objectors(machine=made, tree=tree, labels=[0, 0]), [])
+        self.assertEqual(seen.ring_objectors(machine=made, ring=row, labels=[0, 0]), [])
+        self.assertIs(seen.wishes(machine=made, tree=tree), True)
+        self.assertIs(seen.ring_wishes(machine=made, ring=row), True)
+        self.assertEqual(seen.ways(machine=made, tree=tree), 1)
+        found = least.best(machine=made, tree=tree, prices=prices, fine=None)
+        self.assertIs(least.judge(machine=made, tree=tree, prices=prices, fine=None, found=found), True)
+        self.assertEqual(least.fewest_objections(machine=made, tree=tree).cost, 0)
+        self.assertEqual(least.after_change(machine=made, tree=tree, old=[0, 0]).cost, 0)
+        found = ring.best_ring(machine=made, ring=row, prices=prices, fine=None)
+        self.assertIs(ring.judge_ring(machine=made, ring=row, prices=prices, fine=None, found=found), True)
+
+    def test_a_class_has_its_methods_itself(self):
+        for made in [machine.Machine, least.Found]:
+            for name in ["__init__", "__eq__"]:
+                self.assertIn(name, vars(made))
 
 
 class NothingFromOutside(unittest.TestCase):
