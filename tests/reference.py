@@ -168,3 +168,108 @@ def comb(letters):
     for at in range(1, len(letters), 2):
         tree = (letters[at + 1], (tree, (letters[at], ())))
     return tree
+
+
+def set_at(machine, tree):
+    """The set of labels of a tree by point [14]."""
+    sides = [set_at(machine, child) for child in tree[1]]
+    return {label for letter, children, label in machine.moves
+            if letter == tree[0] and len(children) == len(sides)
+            and all(child in side for child, side in zip(children, sides))}
+
+
+def wished(machine, tree):
+    return any(label in machine.ends for label in set_at(machine, tree))
+
+
+def trees_of(letters, many):
+    """All trees of just so many people."""
+    if many == 1:
+        return [(letter, ()) for letter in range(letters)]
+    below = [(child,) for child in trees_of(letters, many - 1)]
+    for first in range(1, many - 1):
+        below += itertools.product(trees_of(letters, first), trees_of(letters, many - 1 - first))
+    return [(letter, children) for letter in range(letters) for children in below]
+
+
+def trees_up_to(letters, many):
+    """All trees of at most so many people, those of fewer people first."""
+    return [tree for people in range(1, many + 1) for tree in trees_of(letters, people)]
+
+
+def rows_up_to(letters, many):
+    return [list(row) for people in range(1, many + 1) for row in itertools.product(range(letters), repeat=people)]
+
+
+def size(tree, known=None):
+    """The number of people of a tree, also of one of very many people that has few parts that differ."""
+    known = {} if known is None else known
+    if id(tree) not in known:
+        known[id(tree)] = 1 + sum(size(child, known) for child in tree[1])
+    return known[id(tree)]
+
+
+def filled_with(context, tree):
+    """A context filled with a tree."""
+    if context == (None, ()):
+        return tree
+    return (context[0], tuple(filled_with(child, tree) for child in context[1]))
+
+
+def is_web(machine, web):
+    """Whether a list of pairs is a web by point [17]."""
+    wishes = [[wished(machine, filled_with(context, tree)) for _, tree in web] for context, _ in web]
+    numbers = range(len(web))
+    return (all(wishes[at][at] for at in numbers)
+            and not any(wishes[one][other] and wishes[other][one] for one in numbers for other in range(one)))
+
+
+def renamed(machine, names):
+    """A machine with another label for each one."""
+    moves = [(letter, [names[child] for child in children], names[label])
+             for letter, children, label in machine.moves]
+    return Machine(machine.letters, machine.labels, moves, [names[label] for label in machine.ends])
+
+
+def sparse_machine(dice, letters, labels, many):
+    """A machine with about so many moves, and at least one end."""
+    moves = [(letter, (), dice.below(labels)) for letter in range(letters)]
+    for _ in range(many):
+        children = [dice.below(labels) for _ in range(dice.below(3))]
+        moves.append((dice.below(letters), children, dice.below(labels)))
+    ends = [label for label in range(labels) if dice.below(3) == 0]
+    return Machine(letters, labels, moves, ends or [dice.below(labels)])
+
+
+def pairs_of_sets(one, two, most):
+    """For each pair of sets of labels that trees have, the least number of people; None for more than so many pairs.
+
+    All pairs are put together again and again, until nothing changes.
+    """
+    sizes = {}
+    changed = True
+    while changed:
+        changed = False
+        known = list(sizes.items())
+        for letter in range(one.letters):
+            for below in [(), *itertools.product(known), *itertools.product(known, known)]:
+                pair = tuple(lead(machine, letter, [sets[at] for sets, _ in below])
+                             for at, machine in enumerate([one, two]))
+                many = 1 + sum(people for _, people in below)
+                if many < sizes.get(pair, many + 1):
+                    sizes[pair] = many
+                    changed = True
+            if len(sizes) > most:
+                return None
+    return sizes
+
+
+def lead(machine, letter, sides):
+    return frozenset(label for told, children, label in machine.moves if told == letter and len(children) == len(sides)
+                     and all(child in side for child, side in zip(children, sides)))
+
+
+def least_unlike(one, two, sizes):
+    """The least number of people of a tree that just one of two machines wishes, or None."""
+    return min((many for (mine, its), many in sizes.items()
+                if bool(mine & set(one.ends)) != bool(its & set(two.ends))), default=None)
